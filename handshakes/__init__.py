@@ -1,0 +1,1 @@
+"""Handshakes: people round a table shake hands, and no arms cross."""
