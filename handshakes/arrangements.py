@@ -22,13 +22,13 @@ def all_paired(partners):
 
 
 def some_cross(partners):
-    """Whether two of the pairs cross, where all are paired."""
+    """Whether two of the pairs cross, where everybody is the partner of their partner, maybe their own."""
     # Without crossing, an arm ends only when all that began after it have ended.
     begun = []
     for person, partner in enumerate(partners):
         if person < partner:
             begun.append(person)
-        elif begun.pop() != partner:
+        elif person > partner and begun.pop() != partner:
             return True
     return False
 

@@ -48,6 +48,52 @@ def fits_definition(partners):
     return not any(crosses(one, other) for one, other in itertools.combinations(pairs, 2))
 
 
+def arrangements(people):
+    """The ascending list of all arrangements, by the definition."""
+    return sorted(partners for partners in pairings(people) if fits_definition(partners))
+
+
+def many_arrangements(people):
+    """The ascending list of all arrangements, for more people than can be paired in every way."""
+    if not people:
+        return [()]
+    found = []
+    for partner in range(1, people, 2):
+        for inner in many_arrangements(partner - 1):
+            for outer in many_arrangements(people - partner - 1):
+                found.append((partner,) + tuple(i + 1 for i in inner) + (0,)
+                             + tuple(i + partner + 1 for i in outer))
+    return sorted(found)
+
+
+def all_known(people):
+    """Every KNOWN of so many people, those that cross included."""
+    return sorted(tuple(pairs) for pairs in partial_matchings(list(range(people))))
+
+
+def partial_matchings(people):
+    if not people:
+        yield []
+        return
+    first, rest = people[0], people[1:]
+    yield from partial_matchings(rest)
+    for other in rest:
+        for matching in partial_matchings([person for person in rest if person != other]):
+            yield [(first, other)] + matching
+
+
+def partitions(things):
+    """All ways to part the things into groups."""
+    if not things:
+        yield []
+        return
+    first, rest = things[0], things[1:]
+    for groups in partitions(rest):
+        yield [(first,)] + groups
+        for at in range(len(groups)):
+            yield groups[:at] + [(first,) + groups[at]] + groups[at + 1:]
+
+
 def side_by_side(people):
     return tuple(i + 1 if i % 2 == 0 else i - 1 for i in range(people))
 

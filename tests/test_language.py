@@ -1,6 +1,7 @@
 """The rules of LANGUAGE.md that a look at the files can tell. It does not replace reading them."""
 
 import ast
+import builtins
 import os
 import re
 import unittest
@@ -9,6 +10,14 @@ PACKAGE = os.path.join(os.path.dirname(os.path.dirname(os.path.abspath(__file__)
 BARRED = ("type typing typing_extensions enum Enum IntEnum StrEnum Flag IntFlag Generic Protocol ABC ABCMeta "
           "namedtuple NamedTuple TypedDict TYPE_CHECKING abstractmethod").split()
 BARRED_INSIDE = ("dataclass", "overload", "contextmanager")
+BUILTINS = ("len range enumerate zip min max sum abs sorted reversed int str bool bytes list tuple dict set frozenset "
+            "isinstance ord repr any all divmod iter next Exception ValueError TypeError KeyError IndexError "
+            "LookupError ZeroDivisionError ArithmeticError OverflowError RuntimeError NotImplementedError "
+            "AttributeError StopIteration NotImplemented").split()
+METHODS = ("append clear copy count endswith extend find get index insert isalnum isalpha isdigit islower isspace "
+           "isupper items join keys ljust lower lstrip partition pop remove replace reverse rfind rjust rpartition "
+           "rsplit rstrip setdefault split splitlines startswith strip update upper values zfill bit_length").split()
+MODULE_LEVEL = (ast.Expr, ast.ImportFrom, ast.FunctionDef, ast.ClassDef, ast.Assign)
 
 
 def sources():
@@ -48,6 +57,48 @@ class Language(unittest.TestCase):
                 if isinstance(node, ast.ImportFrom):
                     self.assertEqual(node.level, 0, name)
                     self.assertRegex(node.module, r"\A(handshakes\.\w+|__future__)\Z", name)
+
+    def test_module_level(self):
+        for name, text in sources():
+            for node in ast.parse(text).body:
+                self.assertIsInstance(node, MODULE_LEVEL, name)
+
+    def test_names(self):
+        for name, text in sources():
+            imported = []
+            assigned = []
+            for node in ast.walk(ast.parse(text)):
+                if isinstance(node, ast.alias):
+                    imported.append(node.name)
+                elif isinstance(node, ast.Name) and isinstance(node.ctx, ast.Store):
+                    assigned.append(node.id)
+                elif isinstance(node, ast.arg):
+                    assigned.append(node.arg)
+                elif isinstance(node, ast.Name) and hasattr(builtins, node.id):
+                    self.assertIn(node.id, BUILTINS, name)
+            for word in assigned:
+                self.assertFalse(word.startswith("_") or hasattr(builtins, word), (name, word))
+                self.assertNotIn(word, imported, name)
+
+    def test_methods(self):
+        own = [node.name for name, text in sources() for node in ast.walk(ast.parse(text))
+               if isinstance(node, ast.FunctionDef)]
+        for name, text in sources():
+            for node in ast.walk(ast.parse(text)):
+                if isinstance(node, ast.Call) and isinstance(node.func, ast.Attribute):
+                    self.assertIn(node.func.attr, METHODS + own, name)
+
+    def test_expressions(self):
+        for name, text in sources():
+            for node in ast.walk(ast.parse(text)):
+                self.assertNotIsInstance(node, (ast.Div, ast.Global, ast.AsyncFunctionDef, ast.Await), name)
+                if isinstance(node, ast.Constant):
+                    self.assertNotIsInstance(node.value, (float, complex), name)
+                if isinstance(node, ast.Compare):
+                    for sign, right in zip(node.ops, node.comparators):
+                        if isinstance(sign, (ast.Is, ast.IsNot)):
+                            self.assertIsInstance(right, ast.Constant, name)
+                            self.assertIn(repr(right.value), ("None", "True", "False"), name)
 
     def test_barred_words(self):
         for name, text in sources():
