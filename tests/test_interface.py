@@ -10,6 +10,12 @@ FUNCTIONS = {
               "evidence": "people known", "many": "people known", "arrangement_at": "people known number",
               "number_of": "people known arrangement", "all_arrangements": "people known"},
     "areas": {"areas": "arrangement", "area_of": "arrangement place", "by_areas": "people some"},
+    "rings": {"rings": "one other", "distance": "one other", "nearer": "one other", "plan": "one other",
+              "shows_plan": "one other thing"},
+    "chances": {"pair_chance": "people known one other", "partner_chances": "people known person",
+                "sure_pairs": "people known", "possible_pairs": "people known", "neighbour_mean": "people known"},
+    "texts": {"arrangement_text": "arrangement", "known_text": "known", "exchanges_text": "some",
+              "arrangement_in": "text", "known_in": "text", "exchanges_in": "text"},
 }
 
 

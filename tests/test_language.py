@@ -16,7 +16,9 @@ BUILTINS = ("len range enumerate zip min max sum abs sorted reversed int str boo
             "AttributeError StopIteration NotImplemented").split()
 METHODS = ("append clear copy count endswith extend find get index insert isalnum isalpha isdigit islower isspace "
            "isupper items join keys ljust lower lstrip partition pop remove replace reverse rfind rjust rpartition "
-           "rsplit rstrip setdefault split splitlines startswith strip update upper values zfill bit_length").split()
+           "rsplit rstrip setdefault split splitlines startswith strip update upper values zfill bit_length "
+           "title capitalize swapcase casefold center expandtabs removeprefix removesuffix rindex isascii isdecimal "
+           "isnumeric istitle isidentifier isprintable").split()
 MODULE_LEVEL = (ast.Expr, ast.ImportFrom, ast.FunctionDef, ast.ClassDef, ast.Assign)
 
 
