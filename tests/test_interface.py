@@ -2,7 +2,7 @@ import importlib
 import inspect
 import unittest
 
-# The files that are written so far, with the functions that the document lists under each.
+# The files with the functions that the document lists under each; the class Table is in test_table.py.
 FUNCTIONS = {
     "arrangements": {"is_arrangement": "thing", "arms": "arrangement", "cross": "one other"},
     "exchanges": {"exchanges": "arrangement", "exchanged": "arrangement exchange", "run": "arrangement some"},
@@ -16,6 +16,10 @@ FUNCTIONS = {
                 "sure_pairs": "people known", "possible_pairs": "people known", "neighbour_mean": "people known"},
     "texts": {"arrangement_text": "arrangement", "known_text": "known", "exchanges_text": "some",
               "arrangement_in": "text", "known_in": "text", "exchanges_in": "text"},
+    "turns": {"turned": "arrangement seats", "mirrored": "arrangement", "period": "arrangement",
+              "alike_many": "people seats"},
+    "small": {"spheres": "arrangement", "farthest": "arrangement", "ways_many": "one other"},
+    "sheet": {"answers": "text"},
 }
 
 

@@ -96,6 +96,8 @@ class Language(unittest.TestCase):
                 self.assertNotIsInstance(node, (ast.Div, ast.Global, ast.AsyncFunctionDef, ast.Await), name)
                 if isinstance(node, ast.Constant):
                     self.assertNotIsInstance(node.value, (float, complex), name)
+                    if isinstance(node.value, str):
+                        self.assertNotIn("%", node.value, name)
                 if isinstance(node, ast.Compare):
                     for sign, right in zip(node.ops, node.comparators):
                         if isinstance(sign, (ast.Is, ast.IsNot)):
